@@ -1,0 +1,1 @@
+"""Leavehall: how many get out of a hall within so many turns."""

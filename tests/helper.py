@@ -1,0 +1,188 @@
+"""What several tests need: halls to ask about, and answers found in another, plainer way."""
+
+import itertools
+import random
+import signal
+import unittest
+
+GREATEST = 10 ** 60 - 1
+# Sixty passages as long as this make a way that is no longer than turns can be many.
+LONG = GREATEST // 60
+
+
+class TooLong(Exception):
+    pass
+
+
+class TimedTest(unittest.TestCase):
+    """Breaks each test off that takes far too long, so that it fails and does not hang."""
+
+    SECONDS = 60
+
+    def setUp(self):
+        before = signal.signal(signal.SIGALRM, self.break_off)
+        self.addCleanup(signal.signal, signal.SIGALRM, before)
+        self.addCleanup(signal.alarm, 0)
+        signal.alarm(self.SECONDS)
+
+    def break_off(self, number, frame):
+        raise TooLong(f"more than {self.SECONDS} seconds")
+
+
+def small_hall(seed):
+    """A hall with so few flows that all of them can be looked at."""
+    chance = random.Random(seed)
+    many = chance.randint(2, 5)
+    passages = []
+    flows = 1
+    for _ in range(chance.randint(0, 8)):
+        a, b = chance.sample(range(many), 2)
+        width = chance.randint(1, 3)
+        if flows * (width + 1) > 800:
+            break
+        flows *= width + 1
+        passages.append((a, b, width, chance.randint(1, 5)))
+    start, goal = chance.sample(range(many), 2)
+    return many, passages, start, goal
+
+
+def wide_hall(seed, widest, longest, many=40, number=60):
+    """A hall with a long row of rooms from 0 to many - 1 and shorter and longer ways beside it."""
+    chance = random.Random(seed)
+    passages = []
+    for room in range(many - 1):
+        passages.append((room, room + 1, chance.randint(1, widest), chance.randint(1, longest)))
+    while len(passages) < number:
+        a = chance.randrange(many - 1)
+        b = min(many - 1, a + chance.randint(1, 9))
+        if chance.randrange(5) == 0:
+            a, b = b, a
+        passages.append((a, b, chance.randint(1, widest), chance.randint(1, longest)))
+    chance.shuffle(passages)
+    return many, passages, 0, many - 1
+
+
+def thick_hall(seed, widest, longest, many):
+    """A hall of sixty passages between few rooms."""
+    chance = random.Random(seed)
+    passages = []
+    for _ in range(60):
+        a, b = chance.sample(range(many), 2)
+        passages.append((a, b, chance.randint(1, widest), chance.randint(1, longest)))
+    return many, passages, 0, many - 1
+
+
+def square_hall(seed, widest, unit):
+    """Six rows of six rooms, sixty passages, all ways from corner to corner ten units long."""
+    chance = random.Random(seed)
+    passages = []
+    for row in range(6):
+        for column in range(6):
+            room = 6 * row + column
+            if column < 5:
+                passages.append((room, room + 1, chance.randint(1, widest), unit))
+            if row < 5:
+                passages.append((room, room + 6, chance.randint(1, widest), unit))
+    chance.shuffle(passages)
+    return 36, passages, 0, 35
+
+
+def counting_hall(levels, times=1):
+    """A hall whose every push but the first takes something back: 2 ** levels steps.
+
+    Level i is level i - 1 with a start and a goal around it. When all of level i - 1 is laid,
+    it is taken back, way by way, by those who come in at its goal and leave it at its start.
+    """
+    passages = [(0, 1, times, 1)]
+    for level in range(1, levels + 1):
+        start, goal, inner_start, inner_goal = 2 * level, 2 * level + 1, 2 * level - 2, 2 * level - 1
+        width = times * 2 ** (level - 1)
+        across = 2 ** level - 1 + 2 * level
+        passages.append((start, inner_start, width, 1))
+        passages.append((inner_goal, goal, width, 1))
+        passages.append((start, inner_goal, width, across))
+        passages.append((inner_start, goal, width, across))
+    return 2 * levels + 2, passages, 2 * levels, 2 * levels + 1
+
+
+def counting_steps(levels, times=1):
+    first = 2 * levels + 1
+    return [(first + 2 * number, times) for number in range(2 ** levels)]
+
+
+def balance(passages, room, flow):
+    going = sum(number for passage, number in zip(passages, flow) if passage[0] == room)
+    coming = sum(number for passage, number in zip(passages, flow) if passage[1] == room)
+    return going - coming
+
+
+def price(passages, flow):
+    return sum(passage[3] * number for passage, number in zip(passages, flow))
+
+
+def is_balanced(many, passages, start, goal, flow):
+    return all(balance(passages, room, flow) == 0 for room in range(many) if room not in (start, goal))
+
+
+def least_costs(many, passages, start, goal):
+    """The least cost for each amount from 0 on, found by looking at every flow there is."""
+    costs = {}
+    for flow in itertools.product(*[range(passage[2] + 1) for passage in passages]):
+        if is_balanced(many, passages, start, goal, flow):
+            amount = balance(passages, start, flow)
+            cost = price(passages, flow)
+            if amount >= 0 and cost < costs.get(amount, cost + 1):
+                costs[amount] = cost
+    return costs
+
+
+def steps_by_costs(costs):
+    steps = []
+    for amount in range(1, len(costs)):
+        length = costs[amount] - costs[amount - 1]
+        if steps and steps[-1][0] == length:
+            steps[-1] = (length, steps[-1][1] + 1)
+        else:
+            steps.append((length, 1))
+    return steps
+
+
+def worth_by_steps(steps, turns):
+    return sum((turns + 1 - length) * many for length, many in steps if length <= turns)
+
+
+def has_ring(many, passages, flow):
+    used = [passage for passage, number in zip(passages, flow) if number > 0]
+    rooms = set(range(many))
+    while rooms:
+        ends = {room for room in rooms if not any(a == room and b in rooms for a, b, _, _ in used)}
+        if not ends:
+            return True
+        rooms -= ends
+    return False
+
+
+def can_be_bettered(many, passages, start, goal, turns, flow):
+    """Whether some change of the flow would raise its amount times (turns + 1) less its cost.
+
+    That is so just where some ring of changes has a cost below 0; going back from goal to start
+    stands for one more that comes through.
+    """
+    changes = [(goal, start, -(turns + 1))]
+    if balance(passages, start, flow) > 0:
+        changes.append((start, goal, turns + 1))
+    for (a, b, width, length), number in zip(passages, flow):
+        if number < width:
+            changes.append((a, b, length))
+        if number > 0:
+            changes.append((b, a, -length))
+    costs = [0] * many
+    for _ in range(many + 1):
+        changed = False
+        for a, b, cost in changes:
+            if costs[a] + cost < costs[b]:
+                costs[b] = costs[a] + cost
+                changed = True
+        if not changed:
+            return False
+    return True

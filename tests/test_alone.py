@@ -1,0 +1,48 @@
+"""Nothing hangs on a clock, chance or files: another process, elsewhere, answers the same."""
+
+import os
+import subprocess
+import sys
+import tempfile
+import unittest
+
+from tests import helper
+
+QUESTION = """
+from leavehall.errors import NoHall
+from leavehall.halls import look_at_hall
+from leavehall.pushes import amount_of, best_flow, cost_of, steps_of
+from tests import helper
+for seed in range(10):
+    for hall in (helper.small_hall(seed), helper.thick_hall(seed, 3, 3, 5), helper.square_hall(seed, 2, 1)):
+        many, passages, start, goal = hall
+        print(look_at_hall(*hall), steps_of(*hall))
+        for turns in range(0, 30, 3):
+            flow = best_flow(*hall, turns)
+            print(flow, amount_of(passages, start, flow), cost_of(passages, flow))
+        try:
+            look_at_hall(many, passages + [(0, 0, 1, 1)], start, goal)
+        except NoHall as error:
+            print(error.place)
+"""
+
+
+def answer(seed, folder):
+    top = os.path.dirname(os.path.dirname(os.path.abspath(helper.__file__)))
+    paths = [top] + [path for path in sys.path if path]
+    environment = dict(os.environ, PYTHONHASHSEED=seed, PYTHONPATH=os.pathsep.join(paths))
+    done = subprocess.run([sys.executable, "-c", QUESTION], cwd=folder, env=environment, check=True,
+                          stdout=subprocess.PIPE, timeout=120)
+    return done.stdout
+
+
+class AloneTest(unittest.TestCase):
+    def test_the_same_in_another_process(self):
+        with tempfile.TemporaryDirectory() as folder:
+            answers = {answer(seed, folder) for seed in ("0", "1", "77")}
+            self.assertEqual(len(answers), 1)
+            self.assertEqual(os.listdir(folder), [])
+
+
+if __name__ == "__main__":
+    unittest.main()
