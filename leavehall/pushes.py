@@ -21,22 +21,22 @@ def cost_of(passages, flow):
 
 
 def steps_of(many, passages, start, goal):
-    left = left_at_first(passages)
+    left = left_behind(passages, [0] * len(passages))
     return push_all(moves_of(many, passages), left, start, goal, None)
 
 
 def best_flow(many, passages, start, goal, turns):
     # Someone whose way is turns + 1 long would add nothing, and any longer way takes away.
-    left = left_at_first(passages)
+    left = left_behind(passages, [0] * len(passages))
     push_all(moves_of(many, passages), left, start, goal, turns)
     return [left[2 * number + 1] for number in range(len(passages))]
 
 
-def left_at_first(passages):
+def left_behind(passages, flow):
     left = []
-    for passage in passages:
-        left.append(passage[2])
-        left.append(0)
+    for passage, number in zip(passages, flow):
+        left.append(passage[2] - number)
+        left.append(number)
     return left
 
 

@@ -1,8 +1,11 @@
 """What several tests need: halls to ask about, and answers found in another, plainer way."""
 
+import collections
+import copy
 import itertools
 import random
 import signal
+import sys
 import unittest
 
 GREATEST = 10 ** 60 - 1
@@ -27,6 +30,54 @@ class TimedTest(unittest.TestCase):
 
     def break_off(self, number, frame):
         raise TooLong(f"more than {self.SECONDS} seconds")
+
+    def told(self, question, *handed):
+        """What is answered, when nothing that was handed in is changed."""
+        kept = copy.deepcopy(handed)
+        answer = question(*handed)
+        self.assertEqual(handed, kept)
+        return answer
+
+    def whole(self, number):
+        self.assertIs(type(number), int)
+        return number
+
+    def assert_walks(self, passages, start, goal, walks):
+        self.assertIs(type(walks), list)
+        for told in walks:
+            self.assertIs(type(told), tuple)
+            self.assertEqual(len(told), 2)
+            self.assert_walk(passages, start, goal, told[0])
+            self.assertGreaterEqual(self.whole(told[1]), 1)
+
+    def assert_walk(self, passages, start, goal, walk):
+        self.assertIs(type(walk), list)
+        self.assertEqual(len(set(walk)), len(walk), walk)
+        room = start
+        for number in walk:
+            self.assertIn(self.whole(number), range(len(passages)))
+            self.assertEqual(passages[number][0], room, walk)
+            room = passages[number][1]
+        self.assertNotEqual(walk, [])
+        self.assertEqual(room, goal, walk)
+
+
+def lines_run(question):
+    """How many lines are run until the question is answered: that hangs on no clock."""
+    lines = 0
+
+    def look(frame, event, argument):
+        nonlocal lines
+        lines += event == "line"
+        return look
+
+    before = sys.gettrace()
+    sys.settrace(look)
+    try:
+        question()
+    finally:
+        sys.settrace(before)
+    return lines
 
 
 def small_hall(seed):
@@ -186,3 +237,107 @@ def can_be_bettered(many, passages, start, goal, turns, flow):
         if not changed:
             return False
     return True
+
+
+def walked(passages, walk):
+    return sum(passages[number][3] for number in walk)
+
+
+def laid_by(passages, walks):
+    """What lies on each passage, when walks are laid so many times."""
+    flow = [0] * len(passages)
+    for walk, many in walks:
+        for number in walk:
+            flow[number] += many
+    return flow
+
+
+def laid_hall(seed, greatest, many, number, times):
+    """A hall whose passages never lead round in a ring, and a flow laid by so many walks by chance."""
+    chance = random.Random(seed)
+    rooms = chance.sample(range(many), many)
+    ends = [(rooms[place], rooms[place + 1]) for place in range(many - 1)]
+    while len(ends) < number:
+        first, second = sorted(chance.sample(range(many), 2))
+        ends.append((rooms[first], rooms[second]))
+    chance.shuffle(ends)
+    walks = []
+    for _ in range(times):
+        walk = []
+        room = rooms[0]
+        while room != rooms[-1]:
+            walk.append(chance.choice([place for place, (a, b) in enumerate(ends) if a == room]))
+            room = ends[walk[-1]][1]
+        walks.append((walk, chance.randint(1, greatest)))
+    flow = laid_by(ends, walks)
+    passages = [(a, b, laid + chance.randint(1, 3), chance.randint(1, greatest)) for (a, b), laid in zip(ends, flow)]
+    return passages, rooms[0], rooms[-1], flow
+
+
+def plan_by_moments(passages, plan):
+    """Goes through a plan moment by moment.
+
+    Told are two dicts: how many set out, for (passage, moment), and how many come to the ends of
+    their walks, for a moment.
+    """
+    going = collections.Counter()
+    coming = collections.Counter()
+    for walk, number, first, last in plan:
+        for moment in range(first, last + 1):
+            for passage in walk:
+                going[passage, moment] += number
+                moment += passages[passage][3]
+            coming[moment] += number
+    return going, coming
+
+
+def most_by_moments(many, passages, start, goal, turns):
+    """How many can come out, waiting or not: as many as can be sent through rooms at moments."""
+    left = collections.Counter()
+    ends = collections.defaultdict(set)
+    arcs = [((room, moment), (room, moment + 1), GREATEST) for room in range(many) for moment in range(turns)]
+    for a, b, width, length in passages:
+        arcs += [((a, moment), (b, moment + length), width) for moment in range(turns - length + 1)]
+    for one, other, width in arcs:
+        left[one, other] += width
+        ends[one].add(other)
+        ends[other].add(one)
+    people = 0
+    while True:
+        ahead = {(start, 0): None}
+        queue = [(start, 0)]
+        for one in queue:
+            for other in ends[one]:
+                if other not in ahead and left[one, other] > 0:
+                    ahead[other] = one
+                    queue.append(other)
+        if (goal, turns) not in ahead:
+            return people
+        way = []
+        other = (goal, turns)
+        while ahead[other] is not None:
+            way.append((ahead[other], other))
+            other = ahead[other]
+        pushed = min(left[arc] for arc in way)
+        for one, other in way:
+            left[one, other] -= pushed
+            left[other, one] += pushed
+        people += pushed
+
+
+def crowd(many, passages, start, goal, turns, seed):
+    """How many come out of a crowd that is let go moment by moment, some of whom wait by chance."""
+    chance = random.Random(seed)
+    eager = chance.choice((0.3, 0.7, 1))
+    there = [collections.Counter() for _ in range(turns + 1)]
+    for moment in range(turns + 1):
+        if moment > 0:
+            for room in range(many):
+                there[moment][room] += there[moment - 1][room]
+        there[moment][start] = GREATEST
+        for a, b, width, length in chance.sample(passages, len(passages)):
+            if a != goal and moment + length <= turns and chance.random() < eager:
+                number = min(there[moment][a], width if eager == 1 else chance.randint(1, width))
+                there[moment][a] -= number
+                there[moment + length][b] += number
+    return there[turns][goal]

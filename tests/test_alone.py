@@ -11,7 +11,10 @@ from tests import helper
 QUESTION = """
 from leavehall.errors import NoHall
 from leavehall.halls import look_at_hall
+from leavehall.looks import come_out, most_at_once, set_out
+from leavehall.plans import bound_of, out_within
 from leavehall.pushes import amount_of, best_flow, cost_of, steps_of
+from leavehall.walks import length_of, walks_of
 from tests import helper
 for seed in range(10):
     for hall in (helper.small_hall(seed), helper.thick_hall(seed, 3, 3, 5), helper.square_hall(seed, 2, 1)):
@@ -19,7 +22,11 @@ for seed in range(10):
         print(look_at_hall(*hall), steps_of(*hall))
         for turns in range(0, 30, 3):
             flow = best_flow(*hall, turns)
-            print(flow, amount_of(passages, start, flow), cost_of(passages, flow))
+            print(flow, amount_of(passages, start, flow), cost_of(passages, flow), walks_of(passages, start, goal, flow))
+            people, walks, moments = out_within(*hall, turns)
+            print(people, walks, moments, bound_of(passages, moments))
+            plan = [(walk, number, 0, turns - length_of(passages, walk)) for walk, number in walks]
+            print(set_out(passages, plan, 2), come_out(passages, plan, turns), most_at_once(passages, plan))
         try:
             look_at_hall(many, passages + [(0, 0, 1, 1)], start, goal)
         except NoHall as error:

@@ -12,10 +12,6 @@ BARRED = (4, [(0, 1, 1, 1), (1, 2, 1, 1), (2, 3, 1, 1), (0, 2, 1, 3), (1, 3, 1, 
 
 
 class PushTest(TimedTest):
-    def whole(self, number):
-        self.assertIs(type(number), int)
-        return number
-
     def steps(self, many, passages, start, goal):
         before = list(passages)
         steps = steps_of(many, passages, start, goal)
