@@ -8,9 +8,16 @@ import signal
 import sys
 import unittest
 
+from leavehall.errors import HallError, NoHall
+
 GREATEST = 10 ** 60 - 1
 # Sixty passages as long as this make a way that is no longer than turns can be many.
 LONG = GREATEST // 60
+# There are many best plans: so another one would be told, were it left to chance or to what was asked before.
+SEVERAL_BEST = (5, [(0, 1, 3, 1), (0, 2, 3, 1), (0, 3, 3, 1), (1, 4, 2, 1), (2, 4, 2, 1), (3, 4, 2, 1),
+                    (1, 2, 3, 1), (2, 3, 3, 1), (3, 1, 3, 1), (0, 4, 4, 5), (0, 4, 4, 5)], 0, 4)
+# The second push takes back what the first laid from room 1 to room 2.
+BARRED = (4, [(0, 1, 1, 1), (1, 2, 1, 1), (2, 3, 1, 1), (0, 2, 1, 3), (1, 3, 1, 3)], 0, 3)
 
 
 class TooLong(Exception):
@@ -38,6 +45,21 @@ class TimedTest(unittest.TestCase):
         self.assertEqual(handed, kept)
         return answer
 
+    def assert_own(self, question):
+        """What is told is the asker's own: changing it changes no answer, neither a later nor an earlier one."""
+        told = question()
+        kept = copy.deepcopy(told)
+        spoil(question())
+        self.assertEqual(told, kept)
+        self.assertEqual(question(), kept)
+
+    def assert_refused(self, error, question, *handed):
+        with self.assertRaises(HallError, msg=handed) as caught:
+            self.told(question, *handed)
+        self.assertIs(type(caught.exception), error, handed)
+        if error is NoHall:
+            self.assertIsNone(caught.exception.place)
+
     def whole(self, number):
         self.assertIs(type(number), int)
         return number
@@ -60,6 +82,74 @@ class TimedTest(unittest.TestCase):
             room = passages[number][1]
         self.assertNotEqual(walk, [])
         self.assertEqual(room, goal, walk)
+
+    def assert_moments(self, many, start, goal, turns, moments):
+        self.assertIs(type(moments), list)
+        self.assertEqual(len(moments), many)
+        for moment in moments:
+            self.assertGreaterEqual(self.whole(moment), 0)
+            self.assertLessEqual(moment, turns + 1)
+        self.assertEqual((moments[start], moments[goal]), (0, turns + 1))
+
+    def assert_out(self, many, passages, start, goal, turns, told):
+        """All that point 10 says of (many, walks, moments)."""
+        self.assertIs(type(told), tuple)
+        self.assertEqual(len(told), 3)
+        people, walks, moments = told
+        self.assert_walks(passages, start, goal, walks)
+        for walk, _ in walks:
+            self.assertLessEqual(walked(passages, walk), turns)
+        for laid, passage in zip(laid_by(passages, walks), passages):
+            self.assertLessEqual(laid, passage[2])
+        self.assertEqual(self.whole(people), sum(number * (turns - walked(passages, walk) + 1)
+                                                 for walk, number in walks))
+        self.assert_moments(many, start, goal, turns, moments)
+        self.assertEqual(bound(passages, moments), people)
+
+    def assert_fewest(self, many, passages, start, goal, people, told):
+        """All that point 13 says of (turns, plan, moments), or of None."""
+        if told is None:
+            self.assertNotIn(goal, rooms_from(passages, start))
+            return
+        self.assertIs(type(told), tuple)
+        self.assertEqual(len(told), 3)
+        turns, plan, moments = told
+        self.assertGreaterEqual(self.whole(turns), 1)
+        self.assert_plan(passages, start, goal, turns, plan)
+        self.assertEqual(sum(number * (last - first + 1) for _, number, first, last in plan), people)
+        self.assert_moments(many, start, goal, turns - 1, moments)
+        self.assertLess(bound(passages, moments), people)
+
+    def assert_plan(self, passages, start, goal, turns, plan):
+        """A plan by which nobody comes out behind turns, and no passage is overfilled."""
+        self.assertIs(type(plan), list)
+        for told in plan:
+            self.assertIs(type(told), tuple)
+            walk, number, first, last = told
+            self.assert_walk(passages, start, goal, walk)
+            self.assertGreaterEqual(self.whole(number), 1)
+            self.assertGreaterEqual(self.whole(first), 0)
+            self.assertGreaterEqual(self.whole(last), first)
+            self.assertLessEqual(last + walked(passages, walk), turns)
+        for passage, spans in zip(passages, spans_by_passage(passages, plan)):
+            for moment, _, _ in spans:
+                together = sum(number for first, last, number in spans if first <= moment <= last)
+                self.assertLessEqual(together, passage[2])
+
+
+def spoil(told):
+    """Empties every list in what was told."""
+    if isinstance(told, (list, tuple)):
+        for thing in told:
+            spoil(thing)
+    if isinstance(told, list):
+        told.clear()
+
+
+def name_of(number):
+    """A name for each number from 0 to 675."""
+    letters = "abcdefghijklmnopqrstuvwxyz"
+    return letters[number // 26] + letters[number % 26]
 
 
 def lines_run(question):
@@ -241,6 +331,29 @@ def can_be_bettered(many, passages, start, goal, turns, flow):
 
 def walked(passages, walk):
     return sum(passages[number][3] for number in walk)
+
+
+def bound(passages, moments):
+    return sum(width * max(moments[b] - moments[a] - length, 0) for a, b, width, length in passages)
+
+
+def rooms_from(passages, start):
+    """The rooms that a way leads to from start, start among them."""
+    rooms = [start]
+    for room in rooms:
+        rooms += {b for a, b, _, _ in passages if a == room and b not in rooms}
+    return rooms
+
+
+def spans_by_passage(passages, plan):
+    """For each passage a list of (first, last, number): so many set out along it at each of these moments."""
+    spans = [[] for _ in passages]
+    for walk, number, first, last in plan:
+        for passage in walk:
+            spans[passage].append((first, last, number))
+            first += passages[passage][3]
+            last += passages[passage][3]
+    return spans
 
 
 def laid_by(passages, walks):

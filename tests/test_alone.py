@@ -9,7 +9,9 @@ import unittest
 from tests import helper
 
 QUESTION = """
+from leavehall.desk import Desk
 from leavehall.errors import NoHall
+from leavehall.fewest import fewest_turns
 from leavehall.halls import look_at_hall
 from leavehall.looks import come_out, most_at_once, set_out
 from leavehall.plans import bound_of, out_within
@@ -22,7 +24,8 @@ for seed in range(10):
         print(look_at_hall(*hall), steps_of(*hall))
         for turns in range(0, 30, 3):
             flow = best_flow(*hall, turns)
-            print(flow, amount_of(passages, start, flow), cost_of(passages, flow), walks_of(passages, start, goal, flow))
+            print(flow, amount_of(passages, start, flow), cost_of(passages, flow))
+            print(walks_of(passages, start, goal, flow))
             people, walks, moments = out_within(*hall, turns)
             print(people, walks, moments, bound_of(passages, moments))
             plan = [(walk, number, 0, turns - length_of(passages, walk)) for walk, number in walks]
@@ -31,6 +34,14 @@ for seed in range(10):
             look_at_hall(many, passages + [(0, 0, 1, 1)], start, goal)
         except NoHall as error:
             print(error.place)
+        print([fewest_turns(*hall, people) for people in (1, 2, 5, 30, 400)])
+        name = helper.name_of
+        desk = Desk()
+        print(desk.say(f"hall {name(start)} {name(goal)}"))
+        for number, (a, b, width, length) in enumerate(passages):
+            print(desk.say(f"lay {name(number)} {name(a)} {name(b)} {width} {length}"))
+        for line in ("rooms", "passages", "out 9", "walks 9", "moments 9", "turns 9"):
+            print(desk.say(line))
 """
 
 

@@ -29,6 +29,7 @@ NOT_USED = re.compile(
     r"\b(type|typing|typing_extensions|enum|Enum|IntEnum|StrEnum|Flag|IntFlag|Generic|Protocol|ABC|ABCMeta|namedtuple"
     r"|NamedTuple|TypedDict|TYPE_CHECKING|abstractmethod)\b|dataclass|overload|contextmanager"
 )
+PYTHONS_TEXTS = {name for kind in (str, int, list, dict, set, bytes) for name in dir(kind)}
 PYTHONS_OWN = dir(__builtins__) if not isinstance(__builtins__, dict) else list(__builtins__)
 
 
@@ -90,6 +91,36 @@ class LanguageTest(unittest.TestCase):
                         self.assertIn(node.id, OWN_NAMES)
                     elif isinstance(node, ast.Call) and isinstance(node.func, ast.Attribute):
                         self.assertIn(node.func.attr, METHODS + own)
+
+    def test_texts(self):
+        for path, text in sources():
+            for node in ast.walk(ast.parse(text)):
+                with self.subTest(path, line=getattr(node, "lineno", None)):
+                    if isinstance(node, ast.FormattedValue):
+                        self.assertIsInstance(node.value, ast.Name)
+                        self.assertIsNone(node.format_spec)
+                    elif isinstance(node, ast.Constant) and isinstance(node.value, str):
+                        self.assertNotIn("%", node.value)
+
+    def test_each_name_has_one_meaning(self):
+        for path, text in sources():
+            tree = ast.parse(text)
+            top = {name.name for node in tree.body if isinstance(node, ast.ImportFrom) for name in node.names}
+            top |= {node.name for node in tree.body if isinstance(node, ast.ClassDef)}
+            for node in ast.walk(tree):
+                with self.subTest(path, line=getattr(node, "lineno", None)):
+                    if isinstance(node, ast.Name) and isinstance(node.ctx, ast.Store):
+                        self.assertNotIn(node.id, top)
+                    elif isinstance(node, ast.arg):
+                        self.assertNotIn(node.arg, top)
+
+    def test_no_method_is_called_like_a_value(self):
+        nodes = [node for _, text in sources() for node in ast.walk(ast.parse(text))]
+        methods = {part.name for node in nodes if isinstance(node, ast.ClassDef)
+                   for part in node.body if isinstance(part, ast.FunctionDef)}
+        values = {node.attr for node in nodes if isinstance(node, ast.Attribute) and isinstance(node.ctx, ast.Store)}
+        self.assertEqual(methods & values, set())
+        self.assertEqual([name for name in methods | values if name in PYTHONS_TEXTS and name != "__init__"], [])
 
 
 if __name__ == "__main__":

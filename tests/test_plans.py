@@ -7,15 +7,7 @@ from leavehall.looks import come_out, most_at_once
 from leavehall.plans import bound_of, out_within
 from leavehall.pushes import steps_of
 from tests import helper
-from tests.helper import GREATEST, LONG, TimedTest
-
-# The second push takes back what the first laid from room 1 to room 2.
-BARRED = (4, [(0, 1, 1, 1), (1, 2, 1, 1), (2, 3, 1, 1), (0, 2, 1, 3), (1, 3, 1, 3)], 0, 3)
-
-
-def bound(passages, moments):
-    return sum(width * max(moments[b] - moments[a] - length, 0) for a, b, width, length in passages)
-
+from tests.helper import BARRED, GREATEST, LONG, SEVERAL_BEST, TimedTest
 
 def plan_of(passages, walks, turns):
     return [(walk, number, 0, turns - helper.walked(passages, walk)) for walk, number in walks]
@@ -25,31 +17,9 @@ class PlanTest(TimedTest):
     def ask(self, many, passages, start, goal, turns):
         """What out_within tells, when all that point 10 says of it holds."""
         told = self.told(out_within, many, passages, start, goal, turns)
-        self.assertIs(type(told), tuple)
-        self.assertEqual(len(told), 3)
-        people, walks, moments = told
-        self.assert_walks(passages, start, goal, walks)
-        self.assert_fits(passages, turns, walks)
-        self.assertEqual(self.whole(people), sum(number * (turns - helper.walked(passages, walk) + 1)
-                                                 for walk, number in walks))
-        self.assert_moments(many, start, goal, turns, moments)
-        self.assertEqual(bound(passages, moments), people)
-        self.assertEqual(bound_of(passages, moments), people)
+        self.assert_out(many, passages, start, goal, turns, told)
+        self.assertEqual(bound_of(passages, told[2]), told[0])
         return told
-
-    def assert_fits(self, passages, turns, walks):
-        for walk, _ in walks:
-            self.assertLessEqual(helper.walked(passages, walk), turns)
-        for laid, passage in zip(helper.laid_by(passages, walks), passages):
-            self.assertLessEqual(laid, passage[2])
-
-    def assert_moments(self, many, start, goal, turns, moments):
-        self.assertIs(type(moments), list)
-        self.assertEqual(len(moments), many)
-        for moment in moments:
-            self.assertGreaterEqual(self.whole(moment), 0)
-            self.assertLessEqual(moment, turns + 1)
-        self.assertEqual((moments[start], moments[goal]), (0, turns + 1))
 
     def people(self, many, passages, start, goal, turns):
         return self.ask(many, passages, start, goal, turns)[0]
@@ -257,7 +227,7 @@ class BoundTest(PlanTest):
         for seed in range(100):
             many, passages, _, _ = helper.small_hall(seed)
             moments = [chance.randint(-20, 20) for _ in range(many)]
-            self.assertEqual(self.bound(passages, moments), bound(passages, moments))
+            self.assertEqual(self.bound(passages, moments), helper.bound(passages, moments))
 
     def test_no_moments_show_less_than_comes_out(self):
         chance = random.Random(6)
@@ -399,12 +369,8 @@ class GreatPlanTest(PlanTest):
 
 
 class OwnPlanTest(PlanTest):
-    # There are many best plans: so another one would be told, were it left to chance or to what was asked before.
-    HALL = (5, [(0, 1, 3, 1), (0, 2, 3, 1), (0, 3, 3, 1), (1, 4, 2, 1), (2, 4, 2, 1), (3, 4, 2, 1),
-                (1, 2, 3, 1), (2, 3, 3, 1), (3, 1, 3, 1), (0, 4, 4, 5), (0, 4, 4, 5)], 0, 4)
-
     def ask_all(self):
-        return [out_within(*self.HALL, turns) for turns in range(9)]
+        return [out_within(*SEVERAL_BEST, turns) for turns in range(9)]
 
     def test_the_same_again(self):
         first = copy.deepcopy(self.ask_all())
@@ -412,27 +378,8 @@ class OwnPlanTest(PlanTest):
             self.ask(*helper.small_hall(seed), seed)
             self.assertEqual(self.ask_all(), first)
 
-    def test_changing_what_was_told_changes_no_answer(self):
-        told = self.ask_all()
-        kept = copy.deepcopy(told)
-        for _, walks, moments in told:
-            for walk, _ in walks:
-                walk.append(0)
-                walk.reverse()
-            walks.clear()
-            moments[0] = 77
-            moments.append(5)
-        self.assertEqual(self.ask_all(), kept)
-
-    def test_asking_more_changes_nothing_that_was_told(self):
-        told = self.ask_all()
-        kept = copy.deepcopy(told)
-        for _, walks, moments in self.ask_all():
-            for walk, _ in walks:
-                walk.clear()
-            walks.clear()
-            moments.clear()
-        self.assertEqual(told, kept)
+    def test_what_is_told_is_the_askers_own(self):
+        self.assert_own(self.ask_all)
 
     def test_a_list_changed_behind_is_asked_anew(self):
         passages = [(0, 1, 2, 3)]
